@@ -1,0 +1,1 @@
+"""Rentshare: rooms and a rent, parted so that nobody envies."""
