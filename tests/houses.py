@@ -1,7 +1,10 @@
 """What several test files need: made-up houses, and ways reckoned without the program's help."""
 
 import itertools
+from fractions import Fraction
+from math import gcd
 
+from rentshare.aims import Worst
 from rentshare.house import House
 
 GREAT = 10 ** 40 - 1
@@ -60,18 +63,24 @@ def worth(house, way):
     return sum(row[room] for row, room in zip(house.worths, way))
 
 
-def greatest_worth(house):
-    """For each number of beds left in each room the greatest worth so far, person by person."""
-    best = {tuple(house.beds): 0}
-    for row in house.worths:
+def greatest_both(house, old):
+    """The greatest worth and how many people at most have their old room by it; for each number of beds left in each
+    room the greatest so far, person by person."""
+    best = {tuple(house.beds): (0, 0)}
+    for row, had in zip(house.worths, old):
         further = {}
         for left, so_far in best.items():
             for room, beds in enumerate(left):
                 if beds > 0:
                     rest = left[:room] + (beds - 1,) + left[room + 1:]
-                    further[rest] = max(so_far + row[room], further.get(rest, so_far + row[room]))
+                    both = (so_far[0] + row[room], so_far[1] + (room == had))
+                    further[rest] = max(both, further.get(rest, both))
         best = further
     return max(best.values())
+
+
+def greatest_worth(house):
+    return greatest_both(house, [None for row in house.worths])[0]
 
 
 def best_ways(house):
@@ -95,7 +104,7 @@ def all_unlike(told):
 
 
 def planted(numbers, beds, people, size):
-    """A house and the only way of greatest worth in it: rooms have prices, open ones 0, and all but the own is worse."""
+    """A house and the only way of greatest worth in it: rooms have prices, open ones 0; all but the own is worse."""
     way = numbers.mixed([room for room, count in enumerate(beds) for bed in range(count)])[:people]
     prices = [numbers.between(0, size) if way.count(room) == beds[room] else 0 for room in range(len(beds))]
     worths = []
@@ -105,3 +114,72 @@ def planted(numbers, beds, people, size):
         row[way[person]] = base + prices[way[person]]
         worths.append(row)
     return House(beds, worths, numbers.between(-size, size)), way
+
+
+def hops(aim):
+    """All hops, by the words of point 12, with their gains."""
+    house = aim.house
+    way = aim.way
+    rooms = range(len(house.beds))
+    found = {}
+    for a, b in itertools.permutations(range(len(way)), 2):
+        for r in rooms:
+            own = way[a] if isinstance(aim, Worst) else way[b]
+            if r == own or way.count(r) < house.beds[r]:
+                asked = b if isinstance(aim, Worst) else a
+                found[(a, r, b)] = house.worths[asked][r] - house.worths[a][way[a]]
+    return found
+
+
+def gain_of(aim, chain, person):
+    """The gain of a chain to the person, reckoned without the program; None where it's none."""
+    known = hops(aim)
+    if not all(hop in known for hop in chain):
+        return None
+    ends = [hop[2] for hop in chain]
+    begins = [hop[0] for hop in chain]
+    if chain and (ends[-1] != person or begins[1:] != ends[:-1]):
+        return None
+    return sum(known[hop] for hop in chain)
+
+
+def share_list(house, way, prices):
+    return [row[room] - Fraction(prices[1][room], prices[0]) for row, room in zip(house.worths, way)]
+
+
+def is_fair(house, way, prices):
+    """By the words of point 10."""
+    parts, rows = prices
+    if sum(rows[room] for room in way) != parts * house.rent:
+        return False
+    for row, own in zip(house.worths, way):
+        if any(parts * row[room] - rows[room] > parts * row[own] - rows[own] for room in range(len(rows))):
+            return False
+    cheapest = min(rows[room] for room in way)
+    return all(rows[room] <= cheapest for room in range(len(rows)) if way.count(room) < house.beds[room])
+
+
+def drawn_prices(house, way, reach):
+    """All fair prices by which the rooms lie whole hundredths apart, each at most that many from the first one."""
+    people = len(way)
+    for others in itertools.product(range(-reach, reach + 1), repeat=len(house.beds) - 1):
+        costs = (0,) + others
+        lacking = house.rent - sum(costs[room] for room in way)
+        prices = (people, [people * cost + lacking for cost in costs])
+        if is_fair(house, way, prices):
+            yield prices
+
+
+def in_lowest_terms(prices):
+    return prices[0] > 0 and gcd(prices[0], *prices[1]) == 1
+
+
+def empty_ones_cost_least(way, prices):
+    rows = prices[1]
+    cheapest = min(rows[room] for room in way)
+    return all(rows[room] == cheapest for room in range(len(rows)) if room not in way)
+
+
+def tied_house(liked, rooms, rent=0):
+    """Single beds; each person likes as many rooms as told for them, the first ones, all just as much."""
+    return House([1] * rooms, [[10 if room < count else 0 for room in range(rooms)] for count in liked], rent)

@@ -4,7 +4,8 @@ import itertools
 import unittest
 from fractions import Fraction
 
-from houses import GREAT, Numbers, all_unlike, best_ways, lists_in, made_beds, made_house, planted, values
+from houses import (GREAT, Numbers, all_unlike, best_ways, gain_of, hops, lists_in, made_beds, made_house, planted,
+                    values)
 from rentshare.aims import Aim, Even, Worst
 from rentshare.chains import bound, chain_gain, greatest
 from rentshare.fair import breach
@@ -17,33 +18,6 @@ def four_people():
 
 
 WAY = [0, 1, 2, 2]
-
-
-def hops(aim):
-    """All hops, by the words of point 12, with their gains."""
-    house = aim.house
-    way = aim.way
-    rooms = range(len(house.beds))
-    found = {}
-    for a, b in itertools.permutations(range(len(way)), 2):
-        for r in rooms:
-            own = way[a] if isinstance(aim, Worst) else way[b]
-            if r == own or way.count(r) < house.beds[r]:
-                asked = b if isinstance(aim, Worst) else a
-                found[(a, r, b)] = house.worths[asked][r] - house.worths[a][way[a]]
-    return found
-
-
-def gain_of(aim, chain, person):
-    """The gain of a chain to the person, reckoned without the program; None where it's none."""
-    known = hops(aim)
-    if not all(hop in known for hop in chain):
-        return None
-    ends = [hop[2] for hop in chain]
-    begins = [hop[0] for hop in chain]
-    if chain and (ends[-1] != person or begins[1:] != ends[:-1]):
-        return None
-    return sum(known[hop] for hop in chain)
 
 
 def row_house(kind, people, order):
