@@ -9,6 +9,20 @@ from rentshare.house import House
 
 GREAT = 10 ** 40 - 1
 
+# A sheet that asks nothing yet.
+FLAT = """room big 2 east
+room small 1 west
+person ann
+person bob
+person cid
+rent 900.00
+worth ann big 300.00
+worth ann small 460.00
+worth bob big 250.00
+worth bob small 400.00
+worth cid big 350.00
+worth cid small 300.00"""
+
 
 class Numbers:
     """A row of numbers that looks like chance and is the same each time."""
@@ -34,6 +48,10 @@ class Numbers:
 
 def made_house(numbers, beds, people, most, rent=0):
     return House(beds, [[numbers.between(-most, most) for room in beds] for person in range(people)], rent)
+
+
+def same_worths(beds, people, amount=5):
+    return House(beds, [[amount] * len(beds) for person in range(people)], 100)
 
 
 def made_beds(numbers, rooms, people):

@@ -3,17 +3,13 @@
 import unittest
 
 from houses import (GREAT, Numbers, best_ways, fits, greatest_both, greatest_worth, made_beds, made_house, planted,
-                    values, worth)
+                    same_worths, values, worth)
 from rentshare.house import House
 from rentshare.keep import kept_way
 
 
 def stays(way, old):
     return sum(room == had for room, had in zip(way, old))
-
-
-def same_worths(beds, people, amount=5):
-    return House(beds, [[amount] * len(beds) for person in range(people)], 100)
 
 
 class Keep(unittest.TestCase):
